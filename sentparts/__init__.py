@@ -1,0 +1,1 @@
+"""Parts of a question that are sent to an unlike store."""
