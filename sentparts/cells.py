@@ -38,9 +38,33 @@ def is_number(value):
     return -LARGEST <= value <= LARGEST
 
 
+def is_told(value):
+    """Whether a value is a text or a number, which can be told in a test or a step."""
+    return is_text(value) or is_number(value)
+
+
+def is_count(value):
+    """Whether a value is an integer of at least 1."""
+    return isinstance(value, int) and not isinstance(value, bool) and value >= 1
+
+
+def are_names(value):
+    """Whether a value is a sequence of at least one name, all different."""
+    if not is_sequence(value) or len(value) == 0:
+        return False
+    if not all([is_name(name) for name in value]):
+        return False
+    return len(set(value)) == len(value)
+
+
 def is_sort(value):
     """Whether a value is the sort of a column."""
     return isinstance(value, str) and value in ("text", "number")
+
+
+def sort_of(cell):
+    """The sort of the columns for which a text or a number can be told."""
+    return "text" if isinstance(cell, str) else "number"
 
 
 def is_cell(value, sort):
@@ -102,3 +126,28 @@ def read_cell(word, sort, at):
     if sort == "number" and is_decimal(word):
         return int(word)
     raise InvalidText(at)
+
+
+def read_told(word):
+    """The text or number with this text; None for the text of a cell that is not there."""
+    return read_cell(word, "text" if word.startswith('"') else "number", 0)
+
+
+def count_text(count):
+    """The decimal digits of an integer of at least 1."""
+    digits = []
+    # Digit by digit, as Python does not write numbers of thousands of digits.
+    while count > 0:
+        count, digit = divmod(count, 10)
+        digits.append(str(digit))
+    return "".join(digits[::-1])
+
+
+def read_count(word):
+    """The integer with these decimal digits."""
+    if not all([sign in DIGITS for sign in word]):
+        raise InvalidText(0)
+    count = 0
+    for sign in word:
+        count = count * 10 + int(sign)
+    return count

@@ -6,14 +6,40 @@ import unittest
 from pathlib import Path
 
 import sentparts
-from sentparts import errors
+from sentparts import conditions, errors, steps
+from sentparts.conditions import And, Below, Is, Lacks, Not, Or, Test, read_test
+from sentparts.plans import Plan
+from sentparts.questions import Question
+from sentparts.steps import Fill, First, Lower, Order, Pick, Round, Step, Tally, Trim, Unlike, Where
 from sentparts.tables import Table
 from sentparts.ways import Ways
+from tests.values import some_questions, some_steps, some_tests
 
 FOLDER = Path(sentparts.__file__).parent
+ONE = [("a", "text")]
+STEPS = {
+    Where: ["test"], Pick: ["columns"], Lower: ["column"], Trim: ["column"], Round: ["column"], Fill: ["column", "cell"],
+    Unlike: ["columns"], Order: ["by"], First: ["count"], Tally: ["columns", "name"],
+}
+TESTS = {
+    Is: ["column", "cell"], Below: ["column", "cell"], Lacks: ["column"], Not: ["test"], And: ["tests"], Or: ["tests"],
+}
 METHODS = {
     Ways: ["__init__", "but", "rounded", "seen", "alike", "ahead", "read", "__eq__", "__str__"],
     Table: ["__init__", "under", "read", "__len__", "__getitem__", "__add__", "__eq__", "__str__"],
+    Test: ["truth", "__and__", "__or__", "__invert__", "__eq__", "__str__"],
+    **{each: ["__init__"] for each in TESTS},
+    Step: ["__eq__", "__str__"],
+    **{each: ["__init__", "__eq__", "__str__"] for each in STEPS},
+    Question: [
+        "__init__", "run", "without", "upto", "behind", "read", "__len__", "__getitem__", "__rshift__", "__eq__", "__str__",
+    ],
+    Plan: ["__init__", "run", "cut", "__len__", "__eq__", "__str__"],
+}
+CLASS_METHODS = [(Ways, "read"), (Table, "read"), (Question, "read"), (Plan, "cut")]
+MODULES = {
+    Ways: "ways", Table: "tables", Test: "conditions", Step: "steps", Question: "questions", Plan: "plans",
+    read_test: "conditions", **{each: "conditions" for each in TESTS}, **{each: "steps" for each in STEPS},
 }
 PARAMETERS = {
     Ways.rounded: ["self", "number"],
@@ -24,6 +50,19 @@ PARAMETERS = {
     Table: ["columns", "rows"],
     Table.under: ["self", "name"],
     Table.read: ["text"],
+    Test.truth: ["self", "cells", "ways"],
+    **TESTS,
+    read_test: ["text"],
+    **STEPS,
+    Question: ["columns", "steps"],
+    Question.run: ["self", "table", "ways"],
+    Question.without: ["self", "at"],
+    Question.upto: ["self", "at"],
+    Question.behind: ["self", "at"],
+    Question.read: ["columns", "text"],
+    Plan: ["sent", "rest"],
+    Plan.run: ["self", "table", "far", "home"],
+    Plan.cut: ["question", "at"],
 }
 
 
@@ -38,13 +77,26 @@ class Interface(unittest.TestCase):
                 with self.subTest(owner=owner, name=name):
                     self.assertIn(name, vars(owner))
 
-    def test_classes_are_defined_in_their_file(self):
-        self.assertEqual(Ways.__module__, "sentparts.ways")
-        self.assertEqual(Table.__module__, "sentparts.tables")
+    def test_classes_and_functions_are_defined_in_their_file(self):
+        for thing, module in MODULES.items():
+            self.assertEqual(thing.__module__, f"sentparts.{module}")
 
-    def test_read_is_a_class_method(self):
-        for owner in METHODS:
-            self.assertIsInstance(vars(owner)["read"], classmethod)
+    def test_class_methods(self):
+        for owner, name in CLASS_METHODS:
+            self.assertIsInstance(vars(owner)[name], classmethod)
+
+    def test_all_tests_and_steps_are_there(self):
+        for module, base, classes in [(conditions, Test, TESTS), (steps, Step, STEPS)]:
+            found = [each for each in vars(module).values() if isinstance(each, type) and base in each.__bases__]
+            self.assertEqual(found, list(classes))
+
+    def test_attributes_are_set_on_each_object(self):
+        for test in some_tests():
+            self.assertLessEqual({*TESTS[test.__class__], "columns", "atoms"}, set(vars(test)))
+        for step in some_steps():
+            self.assertLessEqual({*STEPS[step.__class__]}, set(vars(step)))
+        self.assertLessEqual({"columns", "steps", "ends"}, set(vars(Question(ONE))))
+        self.assertLessEqual({"sent", "rest", "whole"}, set(vars(Plan(Question(ONE), Question(ONE)))))
 
     def test_parameter_names(self):
         for function, names in PARAMETERS.items():
@@ -59,9 +111,12 @@ class Interface(unittest.TestCase):
 
 class Objects(unittest.TestCase):
     def test_not_iterable(self):
-        for thing in (Ways(), Table([("a", "text")]), Table([("a", "text")], [["x"]]), errors.Mismatch()):
+        things = [Ways(), Table(ONE), Table(ONE, [["x"]]), errors.Mismatch()]
+        for thing in [*things, *some_tests(), *some_steps(), *some_questions()]:
             with self.assertRaises(TypeError):
                 iter(thing)
+            with self.assertRaises(TypeError):
+                list(thing)
 
     def test_calls_change_nothing(self):
         ways = Ways(case="folded", blanks="dropped", empty="lacks", unit=10)
@@ -84,6 +139,42 @@ class Objects(unittest.TestCase):
         first = [call() for call in calls]
         self.assertEqual([call() for call in reversed(calls)], list(reversed(first)))
         self.assertEqual(vars(table), before)
+
+    def test_calls_of_tests_steps_questions_and_plans_change_nothing(self):
+        test = Is("a", "x") & ~Lacks("a")
+        question = Question(ONE, [Where(test), Lower("a"), Order([("a", "down")]), First(2)])
+        plan, table = Plan.cut(question, 2), Table(ONE, [["x"], ["X"], [None], ["x"]])
+        cells, ways = {"a": "x"}, Ways(case="folded")
+        objects = [test, *question.steps, question, plan, table, ways]
+        before = [dict(vars(each)) for each in objects]
+        calls = [
+            lambda: test.truth(cells, ways), lambda: str(test), lambda: test & test, lambda: test | test, lambda: ~test,
+            lambda: test == ~test, lambda: read_test(str(test)), lambda: question.run(table, ways), lambda: len(question),
+            lambda: question[1], lambda: question.without(0), lambda: question.upto(2), lambda: question.behind(1),
+            lambda: question >> Question(ONE), lambda: str(question), lambda: Question.read(ONE, str(question)),
+            lambda: Plan.cut(question, 1), lambda: plan.run(table, ways, Ways()), lambda: len(plan), lambda: str(plan),
+            lambda: plan == Plan.cut(question, 1), lambda: question == question.upto(3), lambda: question[0] == question[1],
+        ]
+        first = [call() for call in calls]
+        self.assertEqual([call() for call in reversed(calls)], list(reversed(first)))
+        self.assertEqual([dict(vars(each)) for each in objects], before)
+        self.assertEqual(cells, {"a": "x"})
+
+    def test_errors_of_questions_and_plans_change_nothing(self):
+        question = Question(ONE, [Lower("a"), First(1)])
+        plan, test = Plan.cut(question, 1), Is("a", "x")
+        wrong = [
+            lambda: question[2], lambda: question.without(2), lambda: question.upto(3), lambda: question.behind(-1),
+            lambda: question >> question, lambda: question.run(Table([("b", "text")]), Ways()), lambda: Plan.cut(question, 3),
+            lambda: plan.run(Table([("b", "text")]), Ways(), Ways()), lambda: Plan(question, question), lambda: test.truth({}, Ways()),
+            lambda: Question(ONE, [*question.steps, First(1)]), lambda: And([test, None]),
+        ]
+        for call in wrong:
+            with self.assertRaises((errors.PartError, LookupError)):
+                call()
+        self.assertEqual(question, Question(ONE, [Lower("a"), First(1)]))
+        self.assertEqual(plan, Plan(Question(ONE, [Lower("a")]), Question(ONE, [First(1)])))
+        self.assertEqual(test, Is("a", "x"))
 
     def test_errors_change_nothing(self):
         table, ways = Table([("a", "text")], [["x"]]), Ways(unit=5)

@@ -14,6 +14,19 @@ EXAMPLES = r"""
 ((('x ', 15), ('X', 25), (None, -4)), 'x', None)
 >>> [Ways(unit=10, halves=halves).rounded(-15) for halves in ("up", "even", "cut")]
 [-10, -20, -10]
+>>> from sentparts.conditions import Is, Lacks, read_test
+>>> test = ~(Is("a", "x") | Lacks("a"))
+>>> str(test), test.truth({"a": None}, home), test == read_test('not (a is "x" or a lacks)')
+('not (a is "x" or a lacks)', False, True)
+>>> from sentparts.plans import Plan
+>>> from sentparts.questions import Question
+>>> question = Question.read([("a", "text"), ("n", "number")], 'where n below 5\nwhere a is "x"\nlower a')
+>>> len(question), len(Plan.cut(question, 2)), str(Plan.cut(question, 0)) == "home\n" + str(question)
+(3, 2, True)
+>>> question = Question.read([("a", "text")], 'unlike a\nwhere not a is "x "')
+>>> table = Table([("a", "text")], [["x"], ["X"], ["x "], ["y"]])
+>>> question.run(table, home).rows, question.run(table, Ways(case="folded", blanks="dropped")).rows
+((('x',), ('X',), ('y',)), (('y',),))
 """
 
 

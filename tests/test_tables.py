@@ -6,23 +6,12 @@ from itertools import product
 from sentparts.errors import InvalidTable, InvalidText, Mismatch, NoColumn, NoRow
 from sentparts.tables import Table
 from sentparts.ways import Ways
-from tests.values import any_values, nested
+from tests.values import (
+    PRINTED, RIGHT_NAMES, RIGHT_NUMBERS, RIGHT_TEXTS, WRONG_DECIMALS, WRONG_NAMES, WRONG_NUMBERS, WRONG_TEXTS, any_values,
+    nested,
+)
 
-LOWER = "abcdefghijklmnopqrstuvwxyz"
-PRINTED = "".join(map(chr, range(32, 127)))
 BOTH = [("a", "text"), ("n", "number")]
-RIGHT_NAMES = [*LOWER, "ab", "abc", "abcd", "zzzz", "i", "iss", "an", "text", "upp", "dow", "nots", "asa", "o"]
-WRONG_NAMES = [
-    "is", "and", "or", "not", "as", "up", "down", "", "abcde", "number", "A", "aB", "a1", "1", "a ", " a", "a_", "_",
-    "a\n", "\u00e9", "\u212a", "\u0131", "a,", '"a"', "-", *[f"a{sign}" for sign in PRINTED if sign not in LOWER],
-]
-RIGHT_TEXTS = ["", " ", " " * 10, "a", "Z", "zA", "a ", "AbCdEfGhIj", "AbCdEfGhI ", "a" + " " * 9, LOWER[:10],
-               LOWER[10:20], LOWER[16:], LOWER.upper()[:10], LOWER.upper()[10:20], LOWER.upper()[16:]]
-WRONG_TEXTS = [" " * 11, "a" * 11, "a" * 10 + " ", " a", "a b", "a1", "1", "-", "a-", "a\n", "\n", "\t", "a\t", "a.",
-               "\u00e9", "\u212a", "\u017f", "\u00a0", "a\u00a0", '"', '"a"', "a,",
-               *[f"a {sign}" for sign in PRINTED[1:]], *[f"a{sign}b" for sign in PRINTED if not sign.isalpha()]]
-RIGHT_NUMBERS = [0, 1, -1, 9, 10, -10, 999999, -999999, 10**6, -10**6]
-WRONG_NUMBERS = [10**6 + 1, -10**6 - 1, 10**7, 10**5000, True, False]
 
 
 class TableTest(unittest.TestCase):
@@ -372,9 +361,7 @@ class Reading(TableTest):
             self.assertEqual(table.rows, ((number,),))
             self.assertIs(table[0][0].__class__, int)
         for word in [
-            "-0", "00", "01", "-01", "007", "0000000", "0000001", "+1", "+0", "--1", "1-", "1.0", "1e3", "1_000", " 1",
-            "1 ", "0x1", "1000001", "-1000001", "2000000", "9999999", "10000000", "-10000000", "9" * 1200, "0" * 1200,
-            "- 1", "one", "\uff11", "\u0661", "\u00b2", "True", "1a", "a",
+            *[word for word in WRONG_DECIMALS if word != "-"],
             *[f"1{sign}" for sign in PRINTED if not sign.isdigit()],
             *[f"{sign}1" for sign in PRINTED if not sign.isdigit() and sign != "-"],
         ]:
