@@ -207,7 +207,7 @@ def read_test(text):
         test = _read_items(_items(_words(text)))
     except InvalidTest:
         raise InvalidText(0) from None
-    # What is read here is more than what is written: other blanks, needless parentheses.
+    # The reader takes more than the texts of tests (other blanks, needless parentheses, words it does not know).
     if test.text != text:
         raise InvalidText(0)
     return test
@@ -248,11 +248,9 @@ def _read_comparison(words):
     if len(words) != 3:
         raise InvalidText(0)
     column, verb, word = words
-    if verb == "is":
-        return Is(column, read_told(word))
     if verb == "below":
         return Below(column, read_told(word))
-    raise InvalidText(0)
+    return Is(column, read_told(word))
 
 
 def _read_items(items):
@@ -269,29 +267,22 @@ def _read_items(items):
             levels[-1].append(_read_level(inner))
         else:
             levels[-1].append(item)
-    if len(levels) != 1:
-        raise InvalidText(0)
     return _read_level(levels[0])
 
 
 def _read_level(items):
     """The test that is told by tests and the words between them, without parentheses."""
     tests = []
-    joints = []
     nots = 0
     for item in items:
-        if item in ("and", "or") and len(tests) == len(joints) + 1:
-            joints.append(item)
-        elif item == "not" and len(tests) == len(joints):
+        if item == "not":
             nots += 1
-        elif isinstance(item, Test) and len(tests) == len(joints):
+        elif isinstance(item, Test):
             tests.append(_negated(item, nots))
             nots = 0
-        else:
-            raise InvalidText(0)
-    if len(tests) != len(joints) + 1:
-        raise InvalidText(0)
-    return _joined(tests, joints)
+    if len(tests) == 1:
+        return tests[0]
+    return Or(tests) if "or" in items else And(tests)
 
 
 def _negated(test, nots):
@@ -299,14 +290,3 @@ def _negated(test, nots):
     for _ in range(nots):
         test = Not(test)
     return test
-
-
-def _joined(tests, joints):
-    """The test of tests and the words between them, which are one fewer."""
-    if len(joints) == 0:
-        return tests[0]
-    if "or" not in joints:
-        return And(tests)
-    if "and" not in joints:
-        return Or(tests)
-    raise InvalidText(0)

@@ -112,13 +112,13 @@ def _first_wrong(step, columns, ahead):
 
 
 def _is_out_of_place(step, ahead):
-    """Whether a step can't stand behind these, whatever the columns are."""
+    """Whether a step can't stand behind these, which are in their places, whatever the columns are."""
     if any([isinstance(each, Tally) for each in ahead]):
         return True
-    meeting = [each for each in ahead if _is_meeting(each)]
-    if not _is_meeting(step) or len(meeting) == 0:
+    if not _is_meeting(step) or not any([_is_meeting(each) for each in ahead]):
         return False
-    return not (isinstance(step, First) and len(meeting) == 1 and isinstance(ahead[-1], Order))
+    # An Order is the first meeting step, or it would not be in its place.
+    return not (isinstance(step, First) and isinstance(ahead[-1], Order))
 
 
 def _is_meeting(step):

@@ -286,10 +286,8 @@ def _names_text(names):
 
 
 def _is_order(value):
-    """Whether a value is a pair of a name and a way of order."""
-    if not isinstance(value, tuple) or len(value) != 2:
-        return False
-    return is_name(value[0]) and isinstance(value[1], str) and value[1] in WAYS_OF_ORDER
+    """Whether a value is a pair of something and a way of order."""
+    return isinstance(value, tuple) and len(value) == 2 and value[1] in WAYS_OF_ORDER
 
 
 def _are_orders(value):

@@ -254,7 +254,8 @@ class Joined(ConditionTest):
         for made, told in [
             (P & Q, And((P, Q))), (P | Q, Or((P, Q))), (~P, Not(P)), (P & Q & R, And((And((P, Q)), R))),
             (P | Q | R, Or((Or((P, Q)), R))), (~~P, Not(Not(P))), (P & (Q & R), And((P, And((Q, R))))),
-            (P | Q & R, Or((P, And((Q, R))))), (~P & Q, And((Not(P), Q))), (~(P | Q), Not(Or((P, Q)))), (P & P, And((P, P))),
+            (P | Q & R, Or((P, And((Q, R))))), (~P & Q, And((Not(P), Q))), (~(P | Q), Not(Or((P, Q)))),
+            (P & P, And((P, P))),
         ]:
             with self.subTest(str(told)):
                 self.assertEqual(shape(made), shape(told))
@@ -364,7 +365,8 @@ class Making(ConditionTest):
     def test_columns(self):
         for test, columns in [
             (Is("a", "x"), ("a",)), (Below("n", 1), ("n",)), (Lacks("b"), ("b",)), (~Lacks("b"), ("b",)),
-            (Lacks("c") & Lacks("a") & Lacks("b"), ("a", "b", "c")), (Lacks("b") | Is("a", "x") | Is("b", "y"), ("a", "b")),
+            (Lacks("c") & Lacks("a") & Lacks("b"), ("a", "b", "c")),
+            (Lacks("b") | Is("a", "x") | Is("b", "y"), ("a", "b")),
             (Or((Not(Lacks("zz")), And((Lacks("z"), Lacks("a"))))), ("a", "z", "zz")), (P & P, ("a",)),
         ]:
             with self.subTest(str(test)):
@@ -405,7 +407,8 @@ class Truth(ConditionTest):
             self.assertEqual(caught.exception.name, missing[0])
 
     def test_no_column_also_where_the_others_tell_enough(self):
-        for test in (Lacks("a") | Lacks("b"), Not(Lacks("a")) & Lacks("b"), P, Below("b", "x"), Lacks("b"), Not(Lacks("b"))):
+        tests = [Lacks("a") | Lacks("b"), Not(Lacks("a")) & Lacks("b"), P, Below("b", "x"), Lacks("b"), Not(Lacks("b"))]
+        for test in tests:
             with self.assertRaises(NoColumn) as caught:
                 test.truth({"a": None} if "b" in test.columns else {"aa": None}, Ways())
             self.assertEqual(caught.exception.name, "b" if "b" in test.columns else "a")
@@ -480,15 +483,21 @@ class Texts(ConditionTest):
             self.assertEqual(read_test(f"{name} lacks").column, name)
             self.assertEqual(read_test(f'not {name} below "x"').test.column, name)
         for name in WRONG_NAMES:
-            for text in (f"{name} lacks", f'{name} is "x"', f"{name} below 1", f"not {name} lacks", f"a lacks or {name} lacks"):
-                self.assert_unreadable(text)
+            for verb in ("lacks", 'is "x"', "below 1"):
+                self.assert_unreadable(f"{name} {verb}")
+                self.assert_unreadable(f"not {name} {verb}")
+                self.assert_unreadable(f"a lacks or {name} {verb}")
 
     def test_needless_and_lacking_parentheses(self):
         for text in [
-            "(a lacks)", "((a lacks))", "not (a lacks)", "(not a lacks)", "(a lacks) and b lacks", "a lacks and (b lacks)",
-            "(a lacks and b lacks)", "((a lacks and b lacks)) or c lacks", "(not a lacks) and b lacks", "not (not a lacks)",
-            "a lacks and (not b lacks)", "(a lacks or b lacks)", "not ((a lacks or b lacks))", "a lacks and b lacks or c lacks",
-            "a lacks or b lacks and c lacks", "(a lacks and b lacks or c lacks) and d lacks", "()", "(", ")", "( )", "not ()",
+            "(a lacks)", "((a lacks))", "not (a lacks)", "(not a lacks)", "(a lacks) and b lacks",
+            "a lacks and (b lacks)",
+            "(a lacks and b lacks)", "((a lacks and b lacks)) or c lacks", "(not a lacks) and b lacks",
+            "not (not a lacks)",
+            "a lacks and (not b lacks)", "(a lacks or b lacks)", "not ((a lacks or b lacks))",
+            "a lacks and b lacks or c lacks",
+            "a lacks or b lacks and c lacks", "(a lacks and b lacks or c lacks) and d lacks", "()", "(", ")", "( )",
+            "not ()",
             "a lacks and ()", "(a lacks", "a lacks)", ")a lacks(", "(a lacks and b lacks", "a lacks and b lacks)",
             "(a lacks and b lacks))", "((a lacks and b lacks)", "a lacks) and (b lacks", "(a) lacks", "a (lacks)",
             '(a is) "x"', 'a is ("x")', "(a lacks and) b lacks", "a lacks (and b lacks)", "a lacks () and b lacks",
@@ -498,23 +507,31 @@ class Texts(ConditionTest):
     def test_blanks(self):
         for text in [
             "", " ", "a  lacks", " a lacks", "a lacks ", "a\tlacks", "a\nlacks", "a lacks\n", "\na lacks", "alacks",
-            'a  is "x"', 'a is  "x"', 'a is"x"', 'a is "x" ', "a is  1", "not  a lacks", "notab lacks", "a lacks  and b lacks",
+            'a  is "x"', 'a is  "x"', 'a is"x"', 'a is "x" ', "a is  1", "not  a lacks", "notab lacks",
+            "a lacks  and b lacks",
             "a lacks and  b lacks", "a lacks and b lacks ", "a lacksand b lacks", "not(a lacks and b lacks)",
             "not ( a lacks and b lacks)", "not (a lacks and b lacks )", "(a lacks and b lacks)or c lacks",
-            "(a lacks and b lacks) or  c lacks", "a lacks or(b lacks and c lacks)", 'a is "x"and b lacks', 'a is "x"or b lacks',
+            "(a lacks and b lacks) or  c lacks", "a lacks or(b lacks and c lacks)", 'a is "x"and b lacks',
+            'a is "x"or b lacks',
             "(a lacks and b lacks)  or c lacks", "not\nnot a lacks", "not\u00a0a lacks", "a\u00a0lacks",
         ]:
             self.assert_unreadable(text)
 
     def test_words(self):
         for text in [
-            "a", "lacks", "a lack", "a Lacks", "A lacks", "a lacks lacks", "a a lacks", "a is", 'is "x"', 'a "x"', "a below",
-            'a is not "x"', "a is lacks", "a is a", "a is b", "a is none", "a is -", "a is None", 'a equals "x"', 'a = "x"',
-            'a Is "x"', 'a iS "x"', 'a lacks "x"', 'a is "x" "x"', 'a is "x" 1', "a is 1 1", "a below 1 lacks", "a is 'x'",
-            'a is "x', 'a is x"', 'a is "', 'a is """', 'a is ""x"', "a is x", "not", "and", "or", "not not", "not and", "a not lacks",
-            "a lacks and", "and a lacks", "or a lacks", "a lacks or", "a lacks and and b lacks", "a lacks and or b lacks",
+            "a", "lacks", "a lack", "a Lacks", "A lacks", "a lacks lacks", "a a lacks", "a is", 'is "x"', 'a "x"',
+            "a below",
+            'a is not "x"', "a is lacks", "a is a", "a is b", "a is none", "a is -", "a is None", 'a equals "x"',
+            'a = "x"',
+            'a Is "x"', 'a iS "x"', 'a lacks "x"', 'a is "x" "x"', 'a is "x" 1', "a is 1 1", "a below 1 lacks",
+            "a is 'x'",
+            'a is "x', 'a is x"', 'a is "', 'a is """', 'a is ""x"', "a is x", "not", "and", "or", "not not",
+            "not and", "a not lacks",
+            "a lacks and", "and a lacks", "or a lacks", "a lacks or", "a lacks and and b lacks",
+            "a lacks and or b lacks",
             "a lacks not", "a lacks not b lacks", "a lacks b lacks", "a lacks, b lacks", "not lacks", "a lacks and not",
-            "a lacks AND b lacks", "NOT a lacks", "a lacks & b lacks", "~a lacks", "a lacks.", "True", "1", '"x"', '"x" is "x"',
+            "a lacks AND b lacks", "NOT a lacks", "a lacks & b lacks", "~a lacks", "a lacks.", "True", "1", '"x"',
+            '"x" is "x"',
             "1 is 1", "a is 1.0", "a below -", "a below --1", '"a" lacks', '"a lacks"', "a lacks not and b lacks",
         ]:
             self.assert_unreadable(text)
@@ -522,8 +539,9 @@ class Texts(ConditionTest):
     def test_strings_one_sign_away(self):
         for text in [text for _, text in TEXTS]:
             for at in range(len(text) + 1):
-                near = [text[:at] + sign + text[at:] for sign in ' ()"-0a1\n' if at <= len(text)]
-                near += [text[:at] + text[at + 1:], text[:at] + text[at:at + 1] * 2 + text[at + 1:], text[:at], text[at:]]
+                ahead, sign, behind = text[:at], text[at:at + 1], text[at + 1:]
+                near = [ahead + new + sign + behind for new in ' ()"-0a1\n']
+                near += [ahead + behind, ahead + sign + sign + behind, ahead, sign + behind]
                 for string in near:
                     if is_test_text(string):
                         self.assertEqual(str(read_test(string)), string)
@@ -548,8 +566,9 @@ class Texts(ConditionTest):
             self.assertEqual(str(test), text)
             self.assertIn(test.truth({"a": "y", "b": "y"}, Ways()), (True, False))
         self.assertIs(read_test("not " * 299 + "a lacks").truth({"a": "x"}, Ways()), True)
-        for text in ["(" * 1300, ")" * 1300, "(" * 650 + ")" * 650, "not " * 325, '"' * 1300, "(" * 600 + "a lacks" + ")" * 600]:
+        for text in ["(" * 1300, ")" * 1300, "(" * 650 + ")" * 650, "not " * 325, '"' * 1300]:
             self.assert_unreadable(text)
+        self.assert_unreadable("(" * 600 + "a lacks" + ")" * 600)
 
 
 if __name__ == "__main__":

@@ -18,7 +18,8 @@ from tests.values import some_questions, some_steps, some_tests
 FOLDER = Path(sentparts.__file__).parent
 ONE = [("a", "text")]
 STEPS = {
-    Where: ["test"], Pick: ["columns"], Lower: ["column"], Trim: ["column"], Round: ["column"], Fill: ["column", "cell"],
+    Where: ["test"], Pick: ["columns"], Lower: ["column"], Trim: ["column"], Round: ["column"],
+    Fill: ["column", "cell"],
     Unlike: ["columns"], Order: ["by"], First: ["count"], Tally: ["columns", "name"],
 }
 TESTS = {
@@ -32,7 +33,8 @@ METHODS = {
     Step: ["__eq__", "__str__"],
     **{each: ["__init__", "__eq__", "__str__"] for each in STEPS},
     Question: [
-        "__init__", "run", "without", "upto", "behind", "read", "__len__", "__getitem__", "__rshift__", "__eq__", "__str__",
+        "__init__", "run", "without", "upto", "behind", "read", "__len__", "__getitem__", "__rshift__", "__eq__",
+        "__str__",
     ],
     Plan: ["__init__", "run", "cut", "__len__", "__eq__", "__str__"],
 }
@@ -149,11 +151,13 @@ class Objects(unittest.TestCase):
         before = [dict(vars(each)) for each in objects]
         calls = [
             lambda: test.truth(cells, ways), lambda: str(test), lambda: test & test, lambda: test | test, lambda: ~test,
-            lambda: test == ~test, lambda: read_test(str(test)), lambda: question.run(table, ways), lambda: len(question),
+            lambda: test == ~test, lambda: read_test(str(test)), lambda: question.run(table, ways),
+            lambda: len(question),
             lambda: question[1], lambda: question.without(0), lambda: question.upto(2), lambda: question.behind(1),
             lambda: question >> Question(ONE), lambda: str(question), lambda: Question.read(ONE, str(question)),
             lambda: Plan.cut(question, 1), lambda: plan.run(table, ways, Ways()), lambda: len(plan), lambda: str(plan),
-            lambda: plan == Plan.cut(question, 1), lambda: question == question.upto(3), lambda: question[0] == question[1],
+            lambda: plan == Plan.cut(question, 1), lambda: question == question.upto(3),
+            lambda: question[0] == question[1],
         ]
         first = [call() for call in calls]
         self.assertEqual([call() for call in reversed(calls)], list(reversed(first)))
@@ -165,8 +169,10 @@ class Objects(unittest.TestCase):
         plan, test = Plan.cut(question, 1), Is("a", "x")
         wrong = [
             lambda: question[2], lambda: question.without(2), lambda: question.upto(3), lambda: question.behind(-1),
-            lambda: question >> question, lambda: question.run(Table([("b", "text")]), Ways()), lambda: Plan.cut(question, 3),
-            lambda: plan.run(Table([("b", "text")]), Ways(), Ways()), lambda: Plan(question, question), lambda: test.truth({}, Ways()),
+            lambda: question >> question, lambda: question.run(Table([("b", "text")]), Ways()),
+            lambda: Plan.cut(question, 3),
+            lambda: plan.run(Table([("b", "text")]), Ways(), Ways()), lambda: Plan(question, question),
+            lambda: test.truth({}, Ways()),
             lambda: Question(ONE, [*question.steps, First(1)]), lambda: And([test, None]),
         ]
         for call in wrong:

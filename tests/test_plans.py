@@ -30,8 +30,10 @@ class Making(unittest.TestCase):
 
     def test_mismatch(self):
         for sent, rest in [
-            (NONE, Question([("a", "text")])), (NONE, Question(tuple(reversed(BOTH)))), (Question(BOTH, [Pick(["a"])]), NONE),
-            (NONE, Question([("a", "text"), ("n", "text")])), (Question(BOTH, [FIRST]), Question([("b", "text")], [FIRST])),
+            (NONE, Question([("a", "text")])), (NONE, Question(tuple(reversed(BOTH)))),
+            (Question(BOTH, [Pick(["a"])]), NONE),
+            (NONE, Question([("a", "text"), ("n", "text")])),
+            (Question(BOTH, [FIRST]), Question([("b", "text")], [FIRST])),
             (Question(BOTH, [TALLY]), Question(BOTH, [FIRST])),
         ]:
             with self.assertRaises(Mismatch):
@@ -40,8 +42,10 @@ class Making(unittest.TestCase):
     def test_errors_of_the_whole(self):
         tallied = Question(BOTH, [Lower("a"), TALLY])
         for at, sent, rest in [
-            (1, Question(BOTH, [FIRST]), Question(BOTH, [FIRST])), (1, Question(BOTH, [FIRST]), Question(BOTH, [ORDER, FIRST])),
-            (2, Question(BOTH, [ORDER]), Question(BOTH, [Lower("a"), FIRST])), (2, tallied, Question(tallied.ends, [Lower("a")])),
+            (1, Question(BOTH, [FIRST]), Question(BOTH, [FIRST])),
+            (1, Question(BOTH, [FIRST]), Question(BOTH, [ORDER, FIRST])),
+            (2, Question(BOTH, [ORDER]), Question(BOTH, [Lower("a"), FIRST])),
+            (2, tallied, Question(tallied.ends, [Lower("a")])),
         ]:
             with self.assertRaises(InvalidQuestion) as caught:
                 Plan(sent, rest)
@@ -95,7 +99,8 @@ class Running(unittest.TestCase):
         ])
 
     def test_it_is_one_question_after_the_other(self):
-        question = Question(BOTH, [Fill("a", "X"), Where(~Lacks("a") & Below("n", 15)), Order([("a", "down"), ("n", "up")]), First(3)])
+        test, order = ~Lacks("a") & Below("n", 15), Order([("a", "down"), ("n", "up")])
+        question = Question(BOTH, [Fill("a", "X"), Where(test), order, First(3)])
         ways = [HOME, FAR, Ways(unit=10, halves="cut"), Ways(empty="lacks", last=True, lacking="alike")]
         for far, home in product(ways, ways):
             for at in range(5):
@@ -117,8 +122,9 @@ class Running(unittest.TestCase):
         self.assertEqual(Plan(NONE, NONE).run(self.table, FAR, HOME), self.table)
 
     def test_mismatch(self):
+        others = [[("a", "text")], tuple(reversed(BOTH)), [("a", "text"), ("n", "text")], [*BOTH, ("b", "text")]]
         for plan in (Plan(NONE, NONE), Plan(Question(BOTH, [Pick(["a"])]), Question([("a", "text")]))):
-            for columns in ([("a", "text")], tuple(reversed(BOTH)), [("a", "text"), ("n", "text")], [*BOTH, ("b", "text")]):
+            for columns in others:
                 with self.assertRaises(Mismatch):
                     plan.run(Table(columns), FAR, HOME)
 

@@ -92,7 +92,8 @@ class Making(QuestionTest):
 
     def test_wrong_columns(self):
         for columns in [
-            [], (), [["a", "text"]], [("a", "text"), ("a", "number")], [("is", "text")], [("a", "texts")], [("abcde", "text")],
+            [], (), [["a", "text"]], [("a", "text"), ("a", "number")], [("is", "text")], [("a", "texts")],
+            [("abcde", "text")],
             ("a", "text"), [("a", "text", "text")], "a text", None,
         ]:
             for steps in ((), None, [Lower("b")], [None]):
@@ -131,7 +132,8 @@ class Wrong(QuestionTest):
 
     def test_column(self):
         for step in [
-            Where(Is("b", "x")), Where(Is("a", "x") & ~Lacks("b")), Where(Lacks("a") | Below("n", 1) | Lacks("b")), Pick(["b"]),
+            Where(Is("b", "x")), Where(Is("a", "x") & ~Lacks("b")), Where(Lacks("a") | Below("n", 1) | Lacks("b")),
+            Pick(["b"]),
             Pick(["a", "b"]), Lower("b"), Trim("b"), Round("b"), Fill("b", "x"), Fill("b", 1), Unlike(["a", "n", "b"]),
             Order([("b", "up")]), Order([("a", "up"), ("b", "down")]), Tally(["b"], "c"), Tally(["a", "b"], "b"),
         ]:
@@ -151,13 +153,15 @@ class Wrong(QuestionTest):
 
     def test_sort(self):
         for step in [
-            Lower("n"), Trim("n"), Round("a"), Fill("a", 1), Fill("n", "x"), Fill("n", ""), Where(Is("a", 1)), Where(Is("n", "x")),
+            Lower("n"), Trim("n"), Round("a"), Fill("a", 1), Fill("n", "x"), Fill("n", ""), Where(Is("a", 1)),
+            Where(Is("n", "x")),
             Where(Below("a", 0)), Where(Below("n", "")), Where(~(Lacks("a") | (Is("n", 1) & Is("a", 1)))),
             Where(Is("a", "x") & Is("a", 1)), Where(Is("n", 1) & Is("n", "x")), Where(Is("n", "x") & Is("n", 1)),
         ]:
             self.assert_wrong(0, "sort", [step])
             self.assert_wrong(2, "sort", [Fill("n", 1), Unlike(["a"]), step, step])
-        self.assert_right([Where(Lacks("a") & Lacks("n")), Fill("a", ""), Fill("n", 0), Where(Is("a", "") | Below("n", 0))])
+        self.assert_right([Where(Lacks("a") & Lacks("n")), Where(Is("a", "") | Below("n", 0))])
+        self.assert_right([Fill("a", ""), Fill("n", 0), Lower("a"), Trim("a"), Round("n")])
 
     def test_the_sort_of_a_column_can_change(self):
         self.assert_wrong(1, "place", [Tally(["n"], "a"), Round("a")])
@@ -212,9 +216,11 @@ class Wrong(QuestionTest):
 
     def test_several_things_wrong_at_one_step(self):
         for word, step in [
-            ("column", Where(Is("b", "x") & Is("a", 1))), ("column", Where(Is("a", 1) & Lacks("b"))), ("column", Tally(["b"], "b")),
+            ("column", Where(Is("b", "x") & Is("a", 1))), ("column", Where(Is("a", 1) & Lacks("b"))),
+            ("column", Tally(["b"], "b")),
             ("column", Tally(["a", "b"], "a")), ("column", Round("b")), ("sort", Lower("n")), ("sort", Round("a")),
-            ("sort", Where(Is("a", 1))), ("new", Tally(["a"], "a")), ("column", Unlike(["b"])), ("column", Order([("b", "up")])),
+            ("sort", Where(Is("a", 1))), ("new", Tally(["a"], "a")), ("column", Unlike(["b"])),
+            ("column", Order([("b", "up")])),
             ("place", Unlike(["a"])), ("place", First(1)), ("place", Tally(["a"], "n")),
         ]:
             self.assert_wrong(1, word, [UNLIKE, step])
@@ -279,7 +285,8 @@ class Running(QuestionTest):
 
     def test_other_columns(self):
         for columns in [
-            [("n", "number"), ("a", "text")], [("a", "text")], [("a", "text"), ("n", "text")], [("b", "text"), ("n", "number")],
+            [("n", "number"), ("a", "text")], [("a", "text")], [("a", "text"), ("n", "text")],
+            [("b", "text"), ("n", "number")],
             [*BOTH, ("b", "text")],
         ]:
             for question in (Question(BOTH), Question(BOTH, [Lower("a")])):
@@ -355,7 +362,8 @@ class Putting(QuestionTest):
     def test_without(self):
         question = Question(BOTH, [Lower("a"), ORDER, FIRST, Pick(["n"])])
         for at, steps in enumerate([
-            [ORDER, FIRST, Pick(["n"])], [Lower("a"), FIRST, Pick(["n"])], [Lower("a"), ORDER, Pick(["n"])], [Lower("a"), ORDER, FIRST],
+            [ORDER, FIRST, Pick(["n"])], [Lower("a"), FIRST, Pick(["n"])], [Lower("a"), ORDER, Pick(["n"])],
+            [Lower("a"), ORDER, FIRST],
         ]):
             self.assertEqual(question.without(at=at), Question(BOTH, steps))
         self.assertEqual(len(question), 4)
@@ -407,7 +415,8 @@ class Comparing(QuestionTest):
     def test_unequal(self):
         question = Question(BOTH, [Lower("a"), Trim("a")])
         for other in [
-            Question(BOTH, [Trim("a"), Lower("a")]), Question(BOTH, [Lower("a")]), Question(BOTH), Question([BOTH[0]], question.steps),
+            Question(BOTH, [Trim("a"), Lower("a")]), Question(BOTH, [Lower("a")]), Question(BOTH),
+            Question([BOTH[0]], question.steps),
             Question(reversed_columns(BOTH), question.steps), Question([("a", "text"), ("n", "text")], question.steps),
             Question(BOTH, [Lower("a"), Trim("a"), Trim("a")]),
         ]:
@@ -429,7 +438,8 @@ class Texts(QuestionTest):
     def test_writing(self):
         self.assertEqual(str(Question(BOTH)), "")
         self.assertEqual(str(Question(BOTH, [First(1)])), "first 1")
-        self.assertEqual(str(Question(BOTH, [Where(Is("a", "x ")), Tally(["n", "a"], "c")])), 'where a is "x "\ntally n a as c')
+        question = Question(BOTH, [Where(Is("a", "x ")), Tally(["n", "a"], "c")])
+        self.assertEqual(str(question), 'where a is "x "\ntally n a as c')
 
     def test_reading(self):
         text = "\n".join(LINES)
@@ -444,11 +454,13 @@ class Texts(QuestionTest):
 
     def test_the_empty_text(self):
         self.assertEqual(Question.read(BOTH, ""), Question(BOTH))
-        for at, text in [(0, "\n"), (0, "\n\n"), (0, "\nfirst 1"), (1, "first 1\n"), (1, "first 1\n\nlower a"), (0, " ")]:
-            self.assert_unreadable(at, text)
+        for text in ("\n", "\n\n", "\nfirst 1", " "):
+            self.assert_unreadable(0, text)
+        for text in ("first 1\n", "first 1\n\nlower a"):
+            self.assert_unreadable(1, text)
 
     def test_the_first_line_that_is_no_text(self):
-        wrong = ["", " ", "first 01", 'where (a is "x")', "lower a ", "home", "pick a a", "a lacks", "order a", "fill a -", "where", "-"]
+        wrong = ["", " ", "first 01", 'where (a is "x")', "lower a ", "home", "pick a a", "a lacks", "order a", "-"]
         for line in wrong:
             for at in range(5):
                 lines = ["lower a"] * 5

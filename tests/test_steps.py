@@ -11,8 +11,8 @@ from sentparts.steps import Fill, First, Lower, Order, Pick, Round, Step, Tally,
 from sentparts.tables import Table
 from sentparts.ways import Ways
 from tests.values import (
-    CHOICES, RIGHT_NAMES, RIGHT_NUMBERS, RIGHT_TEXTS, WRONG_DECIMALS, WRONG_NAMES, WRONG_NUMBERS, WRONG_TEXTS, all_ways,
-    any_values, is_among, nested, some_steps,
+    CHOICES, LOWER, RIGHT_NAMES, RIGHT_NUMBERS, RIGHT_TEXTS, WRONG_DECIMALS, WRONG_NAMES, WRONG_NUMBERS, WRONG_TEXTS,
+    all_ways, any_values, is_among, nested, some_steps,
 )
 
 CLASSES = [Where, Pick, Lower, Trim, Round, Fill, Unlike, Order, First, Tally]
@@ -22,8 +22,11 @@ WORDS = [
     (Pick(["a"]), "pick a"),
     (Pick(("n", "a", "bcde")), "pick n a bcde"),
     (Lower("a"), "lower a"),
+    (Lower("n"), "lower n"),
     (Trim("a"), "trim a"),
+    (Trim("bc"), "trim bc"),
     (Round("n"), "round n"),
+    (Round("m"), "round m"),
     (Fill("a", "x"), 'fill a "x"'),
     (Fill("a", ""), 'fill a ""'),
     (Fill("a", "Xy  "), 'fill a "Xy  "'),
@@ -40,6 +43,7 @@ WORDS = [
     (Tally(("a", "n"), "abcd"), "tally a n as abcd"),
 ]
 BOTH = [("a", "text"), ("n", "number")]
+LETTERS = [*LOWER, *LOWER.upper()]
 MIXED = [["x", 1], ["X", 2], ["x ", 3], ["", 4], [None, 5], [" ", 6], ["x", 1], ["y", None], ["", 14], [None, 15]]
 
 
@@ -84,9 +88,10 @@ class Keeping(StepTest):
         is_x = Where(Is("a", "x"))
         self.assertEqual(made_of_cells(is_x, cells, Ways(case="folded")), ["x", "X"])
         self.assertEqual(made_of_cells(is_x, cells, Ways(blanks="dropped")), ["x", "x "])
-        self.assertEqual(made_of_cells(Where(Lacks("a")), cells, Ways()), [None])
-        self.assertEqual(made_of_cells(Where(Lacks("a")), cells, Ways(empty="lacks")), [None, ""])
-        self.assertEqual(made_of_cells(Where(Lacks("a")), cells, Ways(empty="lacks", blanks="dropped")), [None, "", " "])
+        lacking = Where(Lacks("a"))
+        self.assertEqual(made_of_cells(lacking, cells, Ways()), [None])
+        self.assertEqual(made_of_cells(lacking, cells, Ways(empty="lacks")), [None, ""])
+        self.assertEqual(made_of_cells(lacking, cells, Ways(empty="lacks", blanks="dropped")), [None, "", " "])
         alike = Ways(empty="lacks", lacking="alike")
         self.assertEqual(made_of_cells(Where(Is("a", "")), cells, alike), [None, ""])
         self.assertEqual(made_of_cells(Where(Is("a", "")), cells, alike.but(lacking="unlike")), [])
@@ -98,7 +103,8 @@ class Keeping(StepTest):
     def test_where_looks_at_all_columns_and_keeps_them(self):
         rows = [["x", 1], ["x", 9], ["y", 1], ["x", None], [None, 1]]
         self.assertEqual(made(Where(Is("a", "x") & Below("n", 5)), rows), (("x", 1),))
-        self.assertEqual(made(Where(Is("a", "x") | Below("n", 5)), rows), (("x", 1), ("x", 9), ("y", 1), ("x", None), (None, 1)))
+        self.assertEqual(made(Where(Is("a", "x") | Below("n", 5)), rows), tuple(map(tuple, rows)))
+        self.assertEqual(made(Where(Is("a", "y") | Below("n", 5)), rows), (("x", 1), ("y", 1), (None, 1)))
         self.assertEqual(made(Where(~(Is("a", "x") & Below("n", 5))), rows), (("x", 9), ("y", 1)))
 
     def test_pick(self):
@@ -125,11 +131,14 @@ class Changing(StepTest):
         cells = ["X", "xY ", None, "", "  ", "ABCDEFGHIJ"]
         for ways in (Ways(), Ways("folded", "dropped", "lacks", "alike", True, 10, "cut")):
             self.assertEqual(made_of_cells(Lower("a"), cells, ways), ["x", "xy ", None, "", "  ", "abcdefghij"])
+            self.assertEqual(made_of_cells(Lower("a"), LETTERS, ways), [*LOWER, *LOWER])
 
     def test_trim(self):
         cells = ["X", "x ", None, "", "  ", "a   ", "aB  "]
         for ways in (Ways(), Ways("folded", "dropped", "lacks", "alike", True, 10, "cut")):
             self.assertEqual(made_of_cells(Trim("a"), cells, ways), ["X", "x", None, "", "", "a", "aB"])
+            self.assertEqual(made_of_cells(Trim("a"), LETTERS, ways), LETTERS)
+            self.assertEqual(made_of_cells(Trim("a"), [sign + " " for sign in LETTERS], ways), LETTERS)
 
     def test_round(self):
         cells = [-25, -15, -7, None, 0, 3, 5, 15, 10**6]
@@ -252,16 +261,16 @@ class Meeting(StepTest):
 
     def test_order_of_blanks_and_numbers(self):
         cells = ["a ", "a", "a  ", " ", ""]
-        self.assertEqual(made_of_cells(Order([("a", "up")]), cells), ["", " ", "a", "a ", "a  "])
-        self.assertEqual(made_of_cells(Order([("a", "up")]), cells, Ways(blanks="dropped")), [" ", "", "a ", "a", "a  "])
-        self.assertEqual(made_of_cells(Order([("a", "down")]), cells, Ways(blanks="dropped")), ["a ", "a", "a  ", " ", ""])
+        up, down = Order([("a", "up")]), Order([("a", "down")])
+        self.assertEqual(made_of_cells(up, cells), ["", " ", "a", "a ", "a  "])
+        self.assertEqual(made_of_cells(up, cells, Ways(blanks="dropped")), [" ", "", "a ", "a", "a  "])
+        self.assertEqual(made_of_cells(down, cells, Ways(blanks="dropped")), ["a ", "a", "a  ", " ", ""])
         numbers = [10, 9, None, -1, 14, 5, -10, 15]
-        order = Order([("a", "up")])
-        self.assertEqual(made_of_cells(order, numbers, Ways(), "number"), [None, -10, -1, 5, 9, 10, 14, 15])
-        self.assertEqual(made_of_cells(order, numbers, Ways(unit=10), "number"), [None, -10, -1, 5, 10, 9, 14, 15])
+        self.assertEqual(made_of_cells(up, numbers, Ways(), "number"), [None, -10, -1, 5, 9, 10, 14, 15])
+        self.assertEqual(made_of_cells(up, numbers, Ways(unit=10), "number"), [None, -10, -1, 5, 10, 9, 14, 15])
         ways = Ways(unit=10, halves="cut", last=True)
-        self.assertEqual(made_of_cells(order, numbers, ways, "number"), [-10, 9, -1, 5, 10, 14, 15, None])
-        self.assertEqual(made_of_cells(Order([("a", "down")]), numbers, ways, "number"), [None, 10, 14, 15, 9, -1, 5, -10])
+        self.assertEqual(made_of_cells(up, numbers, ways, "number"), [-10, 9, -1, 5, 10, 14, 15, None])
+        self.assertEqual(made_of_cells(down, numbers, ways, "number"), [None, 10, 14, 15, 9, -1, 5, -10])
 
     def test_order_by_several_columns(self):
         rows = [["b", 1], ["a", 2], ["b", None], ["a", 1], [None, 2], ["a", None], [None, 1]]
@@ -289,8 +298,9 @@ class Meeting(StepTest):
         return False
 
     def test_order_at_all_ways(self):
-        orders = [[(name, way)] for name in "an" for way in ("up", "down")]
-        orders += [[(one, way), (other, beside)] for one, other in ("an", "na") for way, beside in product(("up", "down"), repeat=2)]
+        each = [(name, way) for name in "an" for way in ("up", "down")]
+        orders = [[pair] for pair in each]
+        orders += [[one, other] for one, other in permutations(each, 2) if one[0] != other[0]]
         for ways in all_ways():
             for by in orders:
                 found = []
@@ -422,7 +432,8 @@ class Making(StepTest):
 
     def test_orders_are_tuples_of_two_with_different_names(self):
         for by in [
-            [], (), ("a", "up"), [["a", "up"]], [("a",)], [("a", "up", "up")], [()], ["au"], [("up", "a")], [("a", "UP")],
+            [], (), ("a", "up"), [["a", "up"]], [("a",)], [("a", "up", "up")], [()], ["au"], [("up", "a")],
+            [("a", "UP")],
             [("a", "up"), ("a", "up")], [("a", "up"), ("a", "down")], [("a", "up"), ("b", "up"), ("a", "down")],
             [("a", "left")], [("a", "")], [("a", True)], [("a", "up ")], {"a": "up"}, [("a", "up"), ("b",)], "a up",
         ]:
@@ -453,6 +464,13 @@ class Comparing(StepTest):
         self.assertIs(Order([("a", "up")]) == Order([("a", "down")]), False)
         self.assertIs(Fill("a", "x") == Fill("a", "X"), False)
         self.assertIs(First(1) == First(2), False)
+
+    def test_what_all_steps_have_in_common(self):
+        for one, text in WORDS:
+            self.assertEqual(Step.__str__(one), text)
+            for other, beside in WORDS:
+                self.assertIs(Step.__eq__(one, other), text == beside)
+            self.assertIs(Step.__eq__(one, text), False)
 
     def test_equal_to_nothing_of_another_class(self):
         for step in some_steps():
@@ -507,21 +525,30 @@ class Texts(StepTest):
 
     def test_lines_that_are_near(self):
         for line in [
-            "", " ", "home", "where", "where ", "where a", "where (a lacks)", "where a  lacks", "where a lacks ", "Where a lacks",
-            "pick", "pick ", "pick a a", "pick a b a", "pick a, b", "pick  a", "pick a  b", "pick a ", " pick a", "pick *",
+            "", " ", "home", "where", "where ", "where a", "where (a lacks)", "where a  lacks", "where a lacks ",
+            "Where a lacks",
+            "pick", "pick ", "pick a a", "pick a b a", "pick a, b", "pick  a", "pick a  b", "pick a ", " pick a",
+            "pick *",
             "lower", "lower ", "lower a b", "lower  a", "lower a ", "LOWER a", "lowera", "lower\ta", "lower a\n",
             "trim", "trim a b", "trim a ", "round", "round n 10", "round  n", "round 10",
-            "fill", "fill a", "fill a ", "fill a -", 'fill "x"', 'fill a  "x"', 'fill a "x" ', 'fill a "x" "y"', 'fill a x',
-            "fill a 'x'", 'fill a b "x"', "fill a with 1", "fill a 1 2", "fill a None", 'fill a "x', 'fill a x"', 'fill a "',
+            "fill", "fill a", "fill a ", "fill a -", 'fill "x"', 'fill a  "x"', 'fill a "x" ', 'fill a "x" "y"',
+            'fill a x',
+            "fill a 'x'", 'fill a b "x"', "fill a with 1", "fill a 1 2", "fill a None", 'fill a "x', 'fill a x"',
+            'fill a "',
             "unlike", "unlike ", "unlike a a", "unlike a,b", "unlike  a", "unlike a ", "unlike a up",
             "order", "order ", "order a", "order a b", "order up", "order a up b", "order a up n", "order a up a down",
-            "order a up a up", "order a left", "order a UP", "order a  up", "order a up ", "order a up, n down", "order by a up",
+            "order a up a up", "order a left", "order a UP", "order a  up", "order a up ", "order a up, n down",
+            "order by a up",
             "order up a", "order a up down", "order a up  n down",
-            "first", "first ", "first 0", "first -1", "first 01", "first +1", "first 1 ", "first  1", "first 1 2", "first one",
+            "first", "first ", "first 0", "first -1", "first 01", "first +1", "first 1 ", "first  1", "first 1 2",
+            "first one",
             "first 1.0", "first 1_0", "first a", "first \uff11", "first \u0661", "first \u00b2", "first -", "first 00",
-            "tally", "tally a", "tally a as", "tally as c", "tally a c", "tally a as c d", "tally a as c as d", "tally a  as c",
-            "tally a as  c", "tally a as c ", "tally a a as c", "tally a AS c", "tally a b c", "tally as", "tally as as c",
-            "tally a as b as c", "tally  as c", "select a", "a lacks", "where a lacks\nfirst 1", "where a lacks and", "firsts 1",
+            "tally", "tally a", "tally a as", "tally as c", "tally a c", "tally a as c d", "tally a as c as d",
+            "tally a  as c",
+            "tally a as  c", "tally a as c ", "tally a a as c", "tally a AS c", "tally a b c", "tally as",
+            "tally as as c",
+            "tally a as b as c", "tally  as c", "select a", "a lacks", "where a lacks\nfirst 1", "where a lacks and",
+            "firsts 1",
         ]:
             self.assert_unreadable(line)
 

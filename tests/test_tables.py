@@ -7,8 +7,8 @@ from sentparts.errors import InvalidTable, InvalidText, Mismatch, NoColumn, NoRo
 from sentparts.tables import Table
 from sentparts.ways import Ways
 from tests.values import (
-    PRINTED, RIGHT_NAMES, RIGHT_NUMBERS, RIGHT_TEXTS, WRONG_DECIMALS, WRONG_NAMES, WRONG_NUMBERS, WRONG_TEXTS, any_values,
-    nested,
+    PRINTED, RIGHT_NAMES, RIGHT_NUMBERS, RIGHT_TEXTS, WRONG_DECIMALS, WRONG_NAMES, WRONG_NUMBERS, WRONG_TEXTS,
+    any_values, nested,
 )
 
 BOTH = [("a", "text"), ("n", "number")]
@@ -337,7 +337,8 @@ class Reading(TableTest):
     def test_the_lines_of_rows(self):
         for line in [
             "", " ", "-", '"x"', "1", '"x", 1, 1', '"x", 1, ', '"x", 1,', ', "x", 1', '"x",1', '"x",  1', '"x" ,1',
-            '"x" , 1', ' "x", 1', '"x", 1 ', '"x" 1', '1, "x"', '1, 1', '"x", "x"', '"x", "1"', "x, 1", '"x, 1', 'x", 1',
+            '"x" , 1', ' "x", 1', '"x", 1 ', '"x" 1', '1, "x"', '1, 1', '"x", "x"', '"x", "1"', "x, 1", '"x, 1',
+            'x", 1',
             '", 1', '""", 1', '""x"", 1', '"x"y", 1', "'x', 1", "None, 1", "--, 1", '"x", --', '"x", None', '"x", ',
             ', 1', ", ", '"x"\t, 1', '"x", 1\r', '"x ", 1, -', '("x", 1)', '-,-', '"x", - 1', "a text, n number",
         ]:
