@@ -3,7 +3,6 @@
 from sentparts.cells import are_names, cell_text, count_text, is_count, is_name, is_sequence, is_told, sort_of
 from sentparts.conditions import Lacks, Test
 from sentparts.errors import InvalidStep
-from sentparts.rows import firsts, ordered, picked, place_of, places_of, replaced
 
 WAYS_OF_ORDER = ("up", "down")
 
@@ -68,12 +67,12 @@ class Pick(Step):
 
     def columns_behind(self, columns):
         """These columns alone."""
-        return picked(columns, places_of(columns, self.columns))
+        return _picked(columns, _places_of(columns, self.columns))
 
     def rows_behind(self, rows, columns, ways):
         """The cells of these columns alone."""
-        places = places_of(columns, self.columns)
-        return [picked(row, places) for row in rows]
+        places = _places_of(columns, self.columns)
+        return [_picked(row, places) for row in rows]
 
     def __eq__(self, other):
         return isinstance(other, Pick) and self.text == other.text
@@ -95,9 +94,9 @@ class Lower(Step):
 
     def rows_behind(self, rows, columns, ways):
         """The rows with the texts of the column in lower case."""
-        place = place_of(columns, self.column)
+        place = _place_of(columns, self.column)
         cells = [None if row[place] is None else row[place].lower() for row in rows]
-        return replaced(rows, place, cells)
+        return _replaced(rows, place, cells)
 
     def __eq__(self, other):
         return isinstance(other, Lower) and self.text == other.text
@@ -119,9 +118,9 @@ class Trim(Step):
 
     def rows_behind(self, rows, columns, ways):
         """The rows with the texts of the column without their blanks at the end."""
-        place = place_of(columns, self.column)
+        place = _place_of(columns, self.column)
         cells = [None if row[place] is None else row[place].rstrip(" ") for row in rows]
-        return replaced(rows, place, cells)
+        return _replaced(rows, place, cells)
 
     def __eq__(self, other):
         return isinstance(other, Trim) and self.text == other.text
@@ -143,9 +142,9 @@ class Round(Step):
 
     def rows_behind(self, rows, columns, ways):
         """The rows with the numbers of the column rounded as the store does."""
-        place = place_of(columns, self.column)
+        place = _place_of(columns, self.column)
         cells = [None if row[place] is None else ways.rounded(row[place]) for row in rows]
-        return replaced(rows, place, cells)
+        return _replaced(rows, place, cells)
 
     def __eq__(self, other):
         return isinstance(other, Round) and self.text == other.text
@@ -170,9 +169,9 @@ class Fill(Step):
 
     def rows_behind(self, rows, columns, ways):
         """The rows with the told cell in the place of those that lack at the store."""
-        place = place_of(columns, self.column)
+        place = _place_of(columns, self.column)
         cells = [self.cell if ways.seen(row[place]) is None else row[place] for row in rows]
-        return replaced(rows, place, cells)
+        return _replaced(rows, place, cells)
 
     def __eq__(self, other):
         return isinstance(other, Fill) and self.text == other.text
@@ -194,7 +193,7 @@ class Unlike(Step):
 
     def rows_behind(self, rows, columns, ways):
         """Of rows that are alike the first one alone."""
-        return [row for row, _ in firsts(rows, places_of(columns, self.columns), ways)]
+        return [row for row, _ in _firsts(rows, _places_of(columns, self.columns), ways)]
 
     def __eq__(self, other):
         return isinstance(other, Unlike) and self.text == other.text
@@ -218,7 +217,7 @@ class Order(Step):
         """The rows ordered."""
         # What counts least is ordered first, as later orders keep what they do not part.
         for name, way in self.by[::-1]:
-            rows = ordered(rows, place_of(columns, name), way, ways)
+            rows = _ordered(rows, _place_of(columns, name), way, ways)
         return rows
 
     def __eq__(self, other):
@@ -266,12 +265,12 @@ class Tally(Step):
 
     def columns_behind(self, columns):
         """These columns and the new one."""
-        return picked(columns, places_of(columns, self.columns)) + ((self.name, "number"),)
+        return _picked(columns, _places_of(columns, self.columns)) + ((self.name, "number"),)
 
     def rows_behind(self, rows, columns, ways):
         """The cells of the first one of the rows that are alike, and how many there are."""
-        places = places_of(columns, self.columns)
-        return [picked(row, places) + (count,) for row, count in firsts(rows, places, ways)]
+        places = _places_of(columns, self.columns)
+        return [_picked(row, places) + (count,) for row, count in _firsts(rows, places, ways)]
 
     def __eq__(self, other):
         return isinstance(other, Tally) and self.text == other.text
@@ -295,3 +294,51 @@ def _are_orders(value):
     if not is_sequence(value) or not all([_is_order(pair) for pair in value]):
         return False
     return are_names([pair[0] for pair in value])
+
+
+def _place_of(columns, name):
+    """The place of a column."""
+    return [column[0] for column in columns].index(name)
+
+
+def _places_of(columns, names):
+    """The places of columns."""
+    return [_place_of(columns, name) for name in names]
+
+
+def _picked(row, places):
+    """What stands at these places of a row, or of columns."""
+    return tuple([row[place] for place in places])
+
+
+def _replaced(rows, place, cells):
+    """The rows with these cells, one for each, at this place."""
+    return [row[:place] + (cell,) + row[place + 1:] for row, cell in zip(rows, cells)]
+
+
+def _firsts(rows, places, ways):
+    """Pairs, in order: a row to which none ahead is alike at these places, and how many are, itself too."""
+    first_rows = {}
+    counts = {}
+    for row in rows:
+        seen = tuple([ways.seen(row[place]) for place in places])
+        if seen not in first_rows:
+            first_rows[seen] = row
+        counts[seen] = counts.get(seen, 0) + 1
+    return [(row, counts[seen]) for seen, row in first_rows.items()]
+
+
+def _ordered(rows, place, way, ways):
+    """The rows ordered by their cells at one place, up or down; those that are alike stay in their order."""
+    if way == "up":
+        return sorted(rows, key=lambda row: _rank(row[place], ways))
+    # Python keeps the order of what is equal in this direction, too.
+    return sorted(rows, key=lambda row: _rank(row[place], ways), reverse=True)
+
+
+def _rank(cell, ways):
+    """What is less for one cell than for another one if the store has it ahead."""
+    seen = ways.seen(cell)
+    if seen is None:
+        return (2, 0) if ways.last else (0, 0)
+    return (1, seen)

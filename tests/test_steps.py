@@ -5,8 +5,7 @@ from itertools import permutations, product
 
 from sentparts.conditions import Below, Is, Lacks, Not
 from sentparts.errors import InvalidStep, InvalidText
-from sentparts.lines import read_step
-from sentparts.questions import Question
+from sentparts.questions import Question, read_step
 from sentparts.steps import Fill, First, Lower, Order, Pick, Round, Step, Tally, Trim, Unlike, Where
 from sentparts.tables import Table
 from sentparts.ways import Ways
