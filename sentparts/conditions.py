@@ -218,7 +218,7 @@ def _words(text):
     words = []
     for at, part in enumerate(text.split('"')):
         # Every other part stands between quotes, where blanks and parentheses part no words.
-        if at % 2 == 1:
+        if int(at) % 2 == 1:
             words.append(f'"{part}"')
         else:
             spaced = part.replace("(", " ( ").replace(")", " ) ")

@@ -72,6 +72,13 @@ def parsed(path):
     return ast.parse(path.read_text(encoding="utf-8"))
 
 
+def is_plainly_a_number(node):
+    """Whether a node is a literal, `int(..)` or `len(..)`, as LANGUAGE.md asks of what stands ahead of a `%`."""
+    if isinstance(node, ast.Call) and isinstance(node.func, ast.Name):
+        return node.func.id in ("int", "len")
+    return isinstance(node, ast.Constant)
+
+
 class Interface(unittest.TestCase):
     def test_methods_are_defined_in_their_class(self):
         for owner, names in METHODS.items():
@@ -220,6 +227,14 @@ class Form(unittest.TestCase):
                     self.assertNotIsInstance(node, ast.Import)
                     if isinstance(node, ast.ImportFrom):
                         self.assertEqual(node.module.split(".")[0], "sentparts")
+
+    def test_a_rest_is_taken_of_what_plainly_is_a_number(self):
+        for path in FOLDER.glob("*.py"):
+            for node in ast.walk(parsed(path)):
+                if isinstance(node, (ast.BinOp, ast.AugAssign)) and isinstance(node.op, ast.Mod):
+                    with self.subTest(path.name, line=node.lineno):
+                        self.assertIsInstance(node, ast.BinOp)
+                        self.assertTrue(is_plainly_a_number(node.left))
 
 
 if __name__ == "__main__":
