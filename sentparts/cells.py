@@ -1,4 +1,4 @@
-"""What names, texts, numbers, cells and columns are, and how cells are written."""
+"""What names, texts, numbers, cells and columns are, how cells are written, and which kinds of them there are."""
 
 from sentparts.errors import InvalidText
 
@@ -10,6 +10,14 @@ LONGEST_NAME = 4
 LONGEST_TEXT = 10
 LARGEST = 1000000
 MOST_DIGITS = 7
+
+# Roundings come again every so many numbers.
+PERIOD = 20
+NEAR = 40
+NEAR_IN_PAIRS = 24
+BEYOND = 100
+# It stands behind the letters of a word, and ahead of all letters in their order, as the end of a word does.
+END = "."
 
 
 def is_sequence(value):
@@ -151,3 +159,170 @@ def read_count(word):
     for sign in word:
         count = count * 10 + int(sign)
     return count
+
+
+def compared(one, other):
+    """-1 if one thing is less than the other one, 0 if they are the same, else 1."""
+    return (one > other) - (one < other)
+
+
+def combined(choices):
+    """All rows that have one of the first choices, then one of the next ones, and so on."""
+    rows = [()]
+    for each in choices:
+        rows = [(*row, choice) for row in rows for choice in each]
+    return rows
+
+
+def kinds_of(sort, told):
+    """Cells of a sort, at least one of each kind that there is beside these told ones."""
+    if sort == "number":
+        return [None, *_numbers_near(told, NEAR), *_numbers_beyond(told)]
+    return [None, *_texts_of(_words_in(Words(told).word_pairs()), told)]
+
+
+def pairs_of_kinds(sort, told):
+    """Pairs of cells of a sort, at least one of each kind that there is beside these told ones."""
+    if sort == "number":
+        numbers = [None, *_numbers_near(told, NEAR_IN_PAIRS)]
+        return combined([numbers, numbers])
+    words = Words(told).word_pairs()
+    pairs = [(None, None)]
+    for text in _texts_of(_words_in(words), told):
+        pairs.extend([(None, text), (text, None)])
+    for one, other in words:
+        pairs.extend(combined([_texts_of([one], told), _texts_of([other], told)]))
+    return pairs
+
+
+def _words_in(pairs):
+    """The words that stand in pairs, each one once."""
+    return list({word: True for pair in pairs for word in pair})
+
+
+def _numbers_near(told, reach):
+    """The numbers that are so near to 0 or to a told one."""
+    near = sorted({middle + by for middle in [0, *told] for by in range(-reach, reach + 1)})
+    return [number for number in near if is_number(number)]
+
+
+def _numbers_beyond(told):
+    """Numbers of each kind that are far from 0 and from the told ones, on both sides."""
+    edge = max([abs(number) for number in [0, *told]]) + BEYOND
+    numbers = [side * (edge + by) for side in (-1, 1) for by in range(PERIOD)]
+    return [number for number in numbers if is_number(number)]
+
+
+def _texts_of(words, told):
+    """The texts of words: without blanks, with as many as are told, with one more, and with two more."""
+    most = max([0, *[len(text) - len(text.rstrip(" ")) for text in told]])
+    texts = [word.rstrip(END) + " " * many for word in words for many in range(most + 3)]
+    return [text for text in texts if is_text(text)]
+
+
+class Words:
+    """The words of told texts, beside which other words, and pairs of them, are compared letter by letter.
+
+    A word is compared with a told one as both stand, lowered with it as it stands, and both lowered.
+    Of words, and of pairs of words, for which all of this goes alike, one is enough. END stands behind all of them.
+    """
+
+    def __init__(self, told):
+        self.told = sorted({text.rstrip(" ") + END for text in told})
+        self.looks = {}
+        self.tails = {}
+
+    def look(self, start):
+        """What decides how words that begin so can go on, and how they compare in the end."""
+        if start not in self.looks:
+            low = start.lower()
+            settled = []
+            for told in self.told:
+                settled.extend([_settled(start, told), _settled(low, told), _settled(low, told.lower())])
+            # Where all is settled it does not matter any more at which letters of the told words one is.
+            length = len(start) if 0 in settled else -1
+            self.looks[start] = (start.endswith(END), start == low, length, *settled)
+        return self.looks[start]
+
+    def pair_look(self, one, other):
+        """What decides how two words that begin so can go on, and how they compare in the end."""
+        return (self.look(one), self.look(other), compared(one, other), compared(one.lower(), other.lower()))
+
+    def signs_behind(self, one, other):
+        """What can stand next in two words that begin so: END, told letters, and two of those between told ones."""
+        if one.endswith(END):
+            return []
+        place = max(self.look(one)[2], self.look(other)[2])
+        told = [word[place].lower() for word in self.told if 0 <= place < len(word)]
+        letters = []
+        room = 2
+        for letter in LOWER:
+            if letter in told:
+                room = 2
+                letters.append(letter)
+            elif room > 0:
+                room -= 1
+                letters.append(letter)
+        return [END, *letters, *[letter.upper() for letter in letters]]
+
+    def tails_behind(self, start):
+        """The tails of words that begin so, one for each look that such a word can have."""
+        look = self.look(start)
+        if look not in self.tails:
+            tails = _reached(
+                "",
+                lambda tail: self.look(start + tail),
+                lambda tail: [tail + sign for sign in self.signs_behind(start + tail, start + tail)],
+            )
+            self.tails[look] = [tail for tail in tails if self.look(start + tail)[0]]
+        return self.tails[look]
+
+    def twins(self):
+        """Pairs of beginnings that are the same in lower case, one of each look that such a pair can have."""
+        return _reached(
+            ("", ""),
+            lambda pair: self.pair_look(pair[0], pair[1]),
+            lambda pair: [(one, other) for one, other in self.longer(pair) if one.lower() == other.lower()],
+        )
+
+    def longer(self, pair):
+        """A pair of beginnings with a sign more each."""
+        one, other = pair
+        signs = self.signs_behind(one, other)
+        return [(one + sign, other + other_sign) for sign in signs for other_sign in signs]
+
+    def word_pairs(self):
+        """Pairs of words, one of each look that a pair can have."""
+        found = {}
+        parted = {}
+        for twins in self.twins():
+            if twins[0].endswith(END):
+                found[self.pair_look(twins[0], twins[1])] = twins
+            for one, other in self.longer(twins):
+                if one.lower() != other.lower():
+                    parted.setdefault(self.pair_look(one, other), (one, other))
+        for one, other in parted.values():
+            for word in [one + tail for tail in self.tails_behind(one)]:
+                for other_word in [other + tail for tail in self.tails_behind(other)]:
+                    found.setdefault(self.pair_look(word, other_word), (word, other_word))
+        return list(found.values())
+
+
+def _settled(start, word):
+    """How words that begin so compare with a word, 0 if it is not settled or if they are the same."""
+    return 0 if word.startswith(start) else compared(start, word)
+
+
+def _reached(first, look, behind):
+    """What is reached from a first thing by going on to what is behind each one, one thing for each look."""
+    found = {}
+    things = [first]
+    while len(things) > 0:
+        new = []
+        for thing in things:
+            seen = look(thing)
+            if seen not in found:
+                found[seen] = thing
+                new.extend(behind(thing))
+        things = new
+    return list(found.values())

@@ -115,13 +115,13 @@ def _is_out_of_place(step, ahead):
     """Whether a step can't stand behind these, which are in their places, whatever the columns are."""
     if any([isinstance(each, Tally) for each in ahead]):
         return True
-    if not _is_meeting(step) or not any([_is_meeting(each) for each in ahead]):
+    if not is_meeting(step) or not any([is_meeting(each) for each in ahead]):
         return False
     # An Order is the first meeting step, or it would not be in its place.
     return not (isinstance(step, First) and isinstance(ahead[-1], Order))
 
 
-def _is_meeting(step):
+def is_meeting(step):
     """Whether rows meet one another in a step."""
     return isinstance(step, (Unlike, Order, First, Tally))
 

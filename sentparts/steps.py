@@ -331,12 +331,12 @@ def _firsts(rows, places, ways):
 def _ordered(rows, place, way, ways):
     """The rows ordered by their cells at one place, up or down; those that are alike stay in their order."""
     if way == "up":
-        return sorted(rows, key=lambda row: _rank(row[place], ways))
+        return sorted(rows, key=lambda row: rank(row[place], ways))
     # Python keeps the order of what is equal in this direction, too.
-    return sorted(rows, key=lambda row: _rank(row[place], ways), reverse=True)
+    return sorted(rows, key=lambda row: rank(row[place], ways), reverse=True)
 
 
-def _rank(cell, ways):
+def rank(cell, ways):
     """What is less for one cell than for another one if the store has it ahead."""
     seen = ways.seen(cell)
     if seen is None:

@@ -8,8 +8,12 @@ from pathlib import Path
 import sentparts
 from sentparts import conditions, errors, steps
 from sentparts.conditions import And, Below, Is, Lacks, Not, Or, Test, read_test
+from sentparts.covers import cover, is_exact, keeps, lost, mend
+from sentparts.deciding import alike, cuts, matters, needless, parting, same
+from sentparts.desk import Desk
 from sentparts.plans import Plan
 from sentparts.questions import Question
+from sentparts.sessions import Session
 from sentparts.steps import Fill, First, Lower, Order, Pick, Round, Step, Tally, Trim, Unlike, Where
 from sentparts.tables import Table
 from sentparts.ways import Ways
@@ -37,11 +41,18 @@ METHODS = {
         "__str__",
     ],
     Plan: ["__init__", "run", "cut", "__len__", "__eq__", "__str__"],
+    Session: [
+        "__init__", "put", "take", "lay", "ask", "split", "answer", "undo", "trial", "within", "table", "__len__",
+    ],
+    Desk: ["__init__", "say", "__len__"],
 }
 CLASS_METHODS = [(Ways, "read"), (Table, "read"), (Question, "read"), (Plan, "cut")]
 MODULES = {
     Ways: "ways", Table: "tables", Test: "conditions", Step: "steps", Question: "questions", Plan: "plans",
     read_test: "conditions", **{each: "conditions" for each in TESTS}, **{each: "steps" for each in STEPS},
+    **{each: "deciding" for each in (same, parting, cuts, alike, needless, matters)},
+    **{each: "covers" for each in (lost, keeps, cover, is_exact, mend)},
+    Session: "sessions", Desk: "desk",
 }
 PARAMETERS = {
     Ways.rounded: ["self", "number"],
@@ -65,6 +76,29 @@ PARAMETERS = {
     Plan: ["sent", "rest"],
     Plan.run: ["self", "table", "far", "home"],
     Plan.cut: ["question", "at"],
+    same: ["p", "q", "far", "home"],
+    parting: ["p", "q", "far", "home"],
+    cuts: ["question", "far", "home"],
+    alike: ["p", "q", "ways"],
+    needless: ["question", "ways"],
+    matters: ["question", "home"],
+    lost: ["test", "ways", "other", "beside", "columns"],
+    keeps: ["test", "ways", "other", "beside", "columns"],
+    cover: ["test", "home", "far", "columns"],
+    is_exact: ["test", "home", "far", "columns"],
+    mend: ["question", "far", "home"],
+    Session: ["table", "far", "home"],
+    Session.put: ["self", "row"],
+    Session.take: ["self", "at"],
+    Session.lay: ["self", "table"],
+    Session.ask: ["self", "question"],
+    Session.split: ["self", "question", "at"],
+    Session.answer: ["self", "plan"],
+    Session.undo: ["self"],
+    Session.trial: ["self"],
+    Session.within: ["self", "work"],
+    Desk: [],
+    Desk.say: ["self", "command"],
 }
 
 
@@ -107,6 +141,11 @@ class Interface(unittest.TestCase):
         self.assertLessEqual({"columns", "steps", "ends"}, set(vars(Question(ONE))))
         self.assertLessEqual({"sent", "rest", "whole"}, set(vars(Plan(Question(ONE), Question(ONE)))))
 
+        session = Session(Table(ONE), Ways(), Ways())
+        self.assertLessEqual({"far", "home", "moved"}, set(vars(session)))
+        self.assertIsInstance(vars(Session)["table"], property)
+        self.assertIsNotNone(vars(Session)["table"].fset)
+
     def test_parameter_names(self):
         for function, names in PARAMETERS.items():
             with self.subTest(function):
@@ -121,6 +160,7 @@ class Interface(unittest.TestCase):
 class Objects(unittest.TestCase):
     def test_not_iterable(self):
         things = [Ways(), Table(ONE), Table(ONE, [["x"]]), errors.Mismatch()]
+        things.extend([Session(Table(ONE), Ways(), Ways()), Desk()])
         for thing in [*things, *some_tests(), *some_steps(), *some_questions()]:
             with self.assertRaises(TypeError):
                 iter(thing)
@@ -170,6 +210,44 @@ class Objects(unittest.TestCase):
         self.assertEqual([call() for call in reversed(calls)], list(reversed(first)))
         self.assertEqual([dict(vars(each)) for each in objects], before)
         self.assertEqual(cells, {"a": "x"})
+
+    def test_decisions_and_covers_change_nothing(self):
+        question = Question(ONE, [Where(Is("a", "x") | Lacks("a")), Lower("a"), Order([("a", "down")]), First(2)])
+        p, q, test, ways = Plan.cut(question, 4), Plan.cut(question, 0), question[0].test, Ways(case="folded")
+        objects = [question, *question.steps, test, p, q, p.sent, q.rest, ways]
+        columns = [("a", "text"), ("n", "number")]
+        before = [dict(vars(each)) for each in objects]
+        calls = [
+            lambda: same(p, q, ways, Ways()), lambda: parting(p, q, ways, Ways()), lambda: cuts(question, ways, Ways()),
+            lambda: alike(question, question.without(1), ways), lambda: needless(question, ways),
+            lambda: matters(question, ways), lambda: lost(test, ways, ~test, Ways(), columns),
+            lambda: keeps(test, ways, test, Ways(), columns), lambda: cover(test, ways, Ways(), columns),
+            lambda: is_exact(test, ways, Ways(), columns), lambda: mend(question, ways, Ways()),
+        ]
+        first = [call() for call in calls]
+        self.assertEqual([call() for call in reversed(calls)], list(reversed(first)))
+        self.assertEqual([dict(vars(each)) for each in objects], before)
+        self.assertEqual(columns, [("a", "text"), ("n", "number")])
+        kinds = [bool, Table, tuple, bool, tuple, tuple, tuple, bool, Test, bool, Plan]
+        for result, kind in zip(first, kinds):
+            self.assertIsInstance(result, kind)
+
+    def test_sessions_and_desks_change_no_arguments(self):
+        table, question = Table(ONE, [["x"], ["X"]]), Question(ONE, [Lower("a"), First(1)])
+        ways, plan, row = Ways(case="folded"), Plan.cut(question, 1), ["y"]
+        objects = [table, question, ways, plan]
+        before = [dict(vars(each)) for each in objects]
+        session = Session(table, ways, Ways())
+        session.put(row)
+        session.take(0)
+        session.table = table
+        session.ask(question)
+        session.split(question, 1)
+        session.answer(plan)
+        session.within(lambda held: held.take(0))
+        session.undo()
+        self.assertEqual([dict(vars(each)) for each in objects], before)
+        self.assertEqual(row, ["y"])
 
     def test_errors_of_questions_and_plans_change_nothing(self):
         question = Question(ONE, [Lower("a"), First(1)])
