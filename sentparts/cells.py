@@ -11,11 +11,10 @@ LONGEST_TEXT = 10
 LARGEST = 1000000
 MOST_DIGITS = 7
 
-# Roundings come again every so many numbers.
-PERIOD = 20
-NEAR = 40
-NEAR_IN_PAIRS = 24
-BEYOND = 100
+# Numbers farther from 0 and from all told ones go like one that is as near, as roundings come again every 20.
+NEAR = 64
+# Numbers that are farther apart stay apart, however they are rounded.
+APART = 24
 # It stands behind the letters of a word, and ahead of all letters in their order, as the end of a word does.
 END = "."
 
@@ -175,24 +174,24 @@ def combined(choices):
 
 
 def kinds_of(sort, told):
-    """Cells of a sort, at least one of each kind that there is beside these told ones."""
+    """Cells of a sort, at least one of each kind that there is beside these told ones; numbers ascend."""
     if sort == "number":
-        return [None, *_numbers_near(told, NEAR), *_numbers_beyond(told)]
+        return [None, *_numbers(told)]
     return [None, *_texts_of(_words_in(Words(told).word_pairs()), told)]
 
 
 def pairs_of_kinds(sort, told):
-    """Pairs of cells of a sort, at least one of each kind that there is beside these told ones."""
+    """Pairs of cells of a sort, at least one of each kind beside these told ones, but for numbers that are far apart."""
     if sort == "number":
-        numbers = [None, *_numbers_near(told, NEAR_IN_PAIRS)]
-        return combined([numbers, numbers])
-    words = Words(told).word_pairs()
-    pairs = [(None, None)]
-    for text in _texts_of(_words_in(words), told):
-        pairs.extend([(None, text), (text, None)])
-    for one, other in words:
-        pairs.extend(combined([_texts_of([one], told), _texts_of([other], told)]))
-    return pairs
+        cells = _numbers(told)
+        pairs = [(one, other) for at, one in enumerate(cells) for other in cells[max(0, at - APART):at + APART + 1]]
+    else:
+        words = Words(told).word_pairs()
+        cells = _texts_of(_words_in(words), told)
+        pairs = []
+        for one, other in words:
+            pairs.extend(combined([_texts_of([one], told), _texts_of([other], told)]))
+    return [(None, None), *[(None, cell) for cell in cells], *[(cell, None) for cell in cells], *pairs]
 
 
 def _words_in(pairs):
@@ -200,17 +199,10 @@ def _words_in(pairs):
     return list({word: True for pair in pairs for word in pair})
 
 
-def _numbers_near(told, reach):
-    """The numbers that are so near to 0 or to a told one."""
-    near = sorted({middle + by for middle in [0, *told] for by in range(-reach, reach + 1)})
+def _numbers(told):
+    """The ascending numbers that are near to 0 or to a told one."""
+    near = sorted({middle + by for middle in [0, *told] for by in range(-NEAR, NEAR + 1)})
     return [number for number in near if is_number(number)]
-
-
-def _numbers_beyond(told):
-    """Numbers of each kind that are far from 0 and from the told ones, on both sides."""
-    edge = max([abs(number) for number in [0, *told]]) + BEYOND
-    numbers = [side * (edge + by) for side in (-1, 1) for by in range(PERIOD)]
-    return [number for number in numbers if is_number(number)]
 
 
 def _texts_of(words, told):

@@ -107,9 +107,20 @@ class Field:
         """For two numbers of groups all relations that cells of these can have, with two cells for each one."""
         kinds = {cell: numbers[self.groups[self.group(cell)]] for cell in self.tracks}
         found = {}
-        for one, other in self.pairs:
+        for one, other in self.pairs + self.outermost(kinds):
             found.setdefault((kinds[one], kinds[other]), {}).setdefault(self.relation(one, other), (one, other))
         return found
+
+    def outermost(self, kinds):
+        """Pairs of the first and last cells of kinds: of numbers that are far apart nothing else is to be told."""
+        firsts = {}
+        lasts = {}
+        for cell in self.tracks:
+            if cell is not None:
+                firsts.setdefault(kinds[cell], cell)
+                lasts[kinds[cell]] = cell
+        ends = [list(firsts.values()), list(lasts.values())]
+        return combined(ends) + combined(ends[::-1])
 
 
 class Meeting:
@@ -202,11 +213,10 @@ def needless(question, ways):
     kinds = _kinds(question, question)
     whole = Course(Plan.cut(question, 0), ways, ways)
     found = []
-    for at, step in enumerate(question.steps):
-        shorter = question.without(at)
-        if not is_meeting(step) and shorter.ends == question.ends:
-            if _parting_rows(Course(Plan.cut(shorter, 0), ways, ways), whole, kinds) is None:
-                found.append(at)
+    for at in [at for at, step in enumerate(question.steps) if not is_meeting(step)]:
+        shorter = Plan.cut(question.without(at), 0)
+        if shorter.whole.ends == question.ends and _parting_rows(Course(shorter, ways, ways), whole, kinds) is None:
+            found.append(at)
     return tuple(found)
 
 

@@ -1,5 +1,6 @@
 """Random questions and tables, and runs of plans on many tables, with which decisions are compared."""
 
+import time
 from itertools import product
 from random import Random
 
@@ -72,6 +73,16 @@ def fewest_rows(p, q, far, home, pools, most):
             if parts(p, q, far, home, Table(p.whole.columns, chosen)):
                 return many
     return None
+
+
+def timed(calls):
+    """The results of calls, and how many seconds the longest one took."""
+    results, longest = [], 0
+    for call in calls:
+        start = time.perf_counter()
+        results.append(call())
+        longest = max(longest, time.perf_counter() - start)
+    return results, longest
 
 
 class Maker:

@@ -1,6 +1,5 @@
 """Promises [25] to [28]: rows that get lost, covers, and mended plans."""
 
-import time
 import unittest
 from itertools import product
 
@@ -13,7 +12,7 @@ from sentparts.questions import Question
 from sentparts.steps import Where
 from sentparts.tables import Table
 from sentparts.ways import Ways
-from tests.running import Maker, near_cells, some_tables, told_in
+from tests.running import Maker, near_cells, some_tables, timed, told_in
 from tests.values import CHOICES
 
 A, N = (("a", "text"),), (("n", "number"),)
@@ -367,11 +366,8 @@ class Limits(unittest.TestCase):
                 lambda: lost(cover(one, home, far, columns), far, one, home, columns),
                 lambda: str(mend(question, far, home)), lambda: str(mend(question, home, far)),
             ]
-            first = []
-            for call in calls:
-                start = time.perf_counter()
-                first.append(call())
-                self.assertLess(time.perf_counter() - start, 5)
+            first, seconds = timed(calls)
+            self.assertLess(seconds, 10)
             self.assertEqual([call() for call in calls[::-1]], first[::-1])
 
     def test_covers_and_mended_plans_may_be_passed_on(self):

@@ -1,6 +1,5 @@
 """Promises [21] to [24]: whether plans are the same, on what they part, cuts, needless steps, rules that matter."""
 
-import time
 import unittest
 from itertools import product
 
@@ -11,7 +10,7 @@ from sentparts.plans import Plan
 from sentparts.questions import Question
 from sentparts.tables import Table
 from sentparts.ways import Ways
-from tests.running import Maker, fewest_rows, parts, read_plan, some_tables, told_in
+from tests.running import Maker, fewest_rows, parts, read_plan, some_tables, timed, told_in
 from tests.values import CHOICES
 
 A, N = [("a", "text")], [("n", "number")]
@@ -408,6 +407,29 @@ class KindsOfCells(Decided):
             question = Question.read(N, f"{text}\nunlike n")
             self.assertIsNone(self.found(Plan.cut(question, 2), Plan.cut(question, 1), HOME, TENS))
 
+    def test_two_numbers_beside_each_told_one(self):
+        stores = [Ways(unit=10, halves=halves) for halves in CHOICES["halves"]] + [Ways(unit=5, halves="cut"), Ways(unit=2)]
+        for told, (far, home) in product([80, 94, -15, 99980], product(stores, stores)):
+            question = Question.read(N, f"where not n below {told} and not n is {told}\nunlike n")
+            numbers = [each for each in range(told - 5, told + 60) if far.rounded(each) > far.rounded(told)]
+            is_same = all(
+                far.alike(one, other) == home.alike(one, other) for one, other in zip(numbers, numbers[1:])
+            )
+            with self.subTest(told=told, far=str(far), home=str(home)):
+                rows = self.found(Plan.cut(question, 2), Plan.cut(question, 1), far, home)
+                self.assertEqual(rows is None, is_same)
+
+    def test_two_numbers_that_are_far_apart(self):
+        # Rows that come to no answer, and are far from the others in their order, can take their places.
+        for low, high in [(-100000, 100000), (5, 2000), (-300, -20)]:
+            below, above = f"where n below {low}", f"where not n below {high}"
+            for way, ahead, behind in [("up", below, above), ("down", above, below)]:
+                both, two = f"where n below {low} or not n below {high}", f"order n {way}\nfirst 2"
+                self.assertIsNone(self.at_home(N, f"{both}\n{two}\n{ahead}", f"{ahead}\n{two}"))
+                rows = self.at_home(N, f"{both}\n{two}\n{behind}", f"{behind}\n{two}")
+                self.assertEqual(len(rows), 3)
+                self.assertEqual([row[0] < low for row in rows].count(way == "up"), 2)
+
     def test_lacking_cells_first_and_last(self):
         for columns in (A, N):
             name = columns[0][0]
@@ -608,11 +630,8 @@ class Limits(unittest.TestCase):
                 lambda: alike(question, question, far), lambda: needless(question, home),
                 lambda: matters(question, home), lambda: same(Plan.cut(question, 4), unsent, far, home),
             ]
-            first = []
-            for call in calls:
-                start = time.perf_counter()
-                first.append(call())
-                self.assertLess(time.perf_counter() - start, 5)
+            first, seconds = timed(calls)
+            self.assertLess(seconds, 10)
             self.assertEqual([call() for call in calls[::-1]], first[::-1])
 
     def test_four_columns_of_which_two_are_told(self):
