@@ -181,7 +181,7 @@ def kinds_of(sort, told):
 
 
 def pairs_of_kinds(sort, told):
-    """Pairs of cells of a sort, at least one of each kind beside these told ones, but for numbers that are far apart."""
+    """Pairs of cells of a sort, at least one of each kind beside these told ones; numbers are near one another."""
     if sort == "number":
         cells = _numbers(told)
         pairs = [(one, other) for at, one in enumerate(cells) for other in cells[max(0, at - APART):at + APART + 1]]

@@ -192,6 +192,21 @@ class SinglesAndPairs(Decided):
             rows = self.sent(A, f'order a up\nfirst {many}\nwhere a is "x"\npick a', LAST, at=2)
             self.assertEqual(len(rows), many + 1)
 
+    def test_the_column_that_is_ordered_by_first_decides(self):
+        # All answers are 5, and rows that come to none are ahead or behind by n, whatever a is.
+        text = "where not n lacks\norder {}\nfirst 1\nwhere n is 5\npick n"
+        self.assertIsNone(self.sent(AN, text.format("n down a up"), FOLDED))
+        self.assertEqual(len(self.sent(AN, text.format("a up n down"), FOLDED)), 2)
+        text = "where not n lacks\norder {}\nfirst 2\nwhere n is 5\npick n"
+        self.assertIsNone(self.sent(AN, text.format("n up a down"), FOLDED))
+        self.assertEqual(len(self.sent(AN, text.format("a down n up"), FOLDED)), 3)
+
+    def test_a_tally_under_the_name_of_a_column(self):
+        self.assertIsNone(self.sent(AN, "round n\ntally a as n", TENS))
+        self.assertEqual(len(self.sent(AN, "round n\ntally n a as c", TENS)), 1)
+        self.assertIsNone(self.sent(AN, "lower a\nround n\ntally a as n", FOLDED.but(unit=5)))
+        self.assertEqual(len(self.sent(AN, "round n\ntally n as a", TENS)), 1)
+
     def test_rows_with_the_same_outcome_change_places_unseen(self):
         self.assertIsNone(self.sent(A, "order a up\nlower a", Ways(case="folded"), Ways(case="folded", last=False)))
         self.assertIsNone(self.sent(A, 'where a is "x" or a is "X"\norder a up\nlower a', FOLDED))
@@ -429,6 +444,26 @@ class KindsOfCells(Decided):
                 rows = self.at_home(N, f"{both}\n{two}\n{behind}", f"{behind}\n{two}")
                 self.assertEqual(len(rows), 3)
                 self.assertEqual([row[0] < low for row in rows].count(way == "up"), 2)
+
+    def test_a_number_that_is_far_ahead_of_another_one(self):
+        # Of the rows that come to no answer those below -1000 alone come ahead of 1000.
+        both = "where n below -1000 or (not n below 1000 and not n is 1000) or n lacks or n is 1000"
+        two = "order n up\nfirst 1\nwhere n is 1000"
+        (one,), (other,) = self.at_home(N, f"{both}\n{two}", f"where n is 1000\n{two}", LAST)
+        self.assertLess(min(one, other), -1000)
+        self.assertEqual(max(one, other), 1000)
+
+    def test_cells_that_are_told_in_a_fill_alone(self):
+        # A lacking cell is 777 or 780 in the end, and other ones are multiples of ten.
+        NA = N + A
+        p = read_plan(NA, "round n\nfill n 777", "unlike n\npick a")
+        q = read_plan(NA, "fill n 777\nround n", "unlike n\npick a")
+        rows = self.found(p, q, TENS, HOME)
+        self.assertEqual(sorted(TENS.seen(row[0]) or 0 for row in rows), [0, 780])
+        p = read_plan(AN, 'lower a\nfill a "mNn"', "unlike a\npick n")
+        q = read_plan(AN, 'fill a "mNn"\nlower a', "unlike a\npick n")
+        rows = self.found(p, q, FOLDED, HOME)
+        self.assertEqual(sorted((row[0] or "").lower() for row in rows), ["", "mnn"])
 
     def test_lacking_cells_first_and_last(self):
         for columns in (A, N):
