@@ -220,7 +220,8 @@ class Words:
     """
 
     def __init__(self, told):
-        self.told = sorted({text.rstrip(" ") + END for text in told})
+        # The empty word is one of them, as it can lack.
+        self.told = sorted({text.rstrip(" ") + END for text in [*told, ""]})
         self.looks = {}
         self.tails = {}
 
