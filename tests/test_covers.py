@@ -1,7 +1,7 @@
 """Promises [25] to [28]: rows that get lost, covers, and mended plans."""
 
 import unittest
-from itertools import product
+from itertools import permutations, product
 
 from sentparts.conditions import Below, Is, Lacks, Not, read_test
 from sentparts.covers import cover, is_exact, keeps, lost, mend
@@ -219,7 +219,7 @@ class Covering(unittest.TestCase):
 
     def test_each_rule(self):
         for name, choices in CHOICES.items():
-            for one, other in product(choices, choices):
+            for one, other in permutations(choices, 2):
                 for base in (HOME, Ways(unit=10), Ways(blanks="dropped", empty="lacks", lacking="alike")):
                     home, far = base.but(**{name: one}), base.but(**{name: other})
                     for text in ['a is "X "', 'not a below "x"', 'a is "" or a is "x"']:

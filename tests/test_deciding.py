@@ -1,7 +1,7 @@
 """Promises [21] to [24]: whether plans are the same, on what they part, cuts, needless steps, rules that matter."""
 
 import unittest
-from itertools import product
+from itertools import combinations, product
 
 from sentparts.cells import compared
 from sentparts.deciding import alike, cuts, matters, needless, parting, same
@@ -37,6 +37,9 @@ class Decided(unittest.TestCase):
             self.assertIsInstance(table, Table)
             self.assertEqual(table.columns, p.whole.columns)
             self.assertTrue(parts(p, q, far, home, table), (str(p), str(q), str(far), str(home), str(table)))
+            for many in range(len(table)):
+                for rows in combinations(table.rows, many):
+                    self.assertFalse(parts(p, q, far, home, Table(table.columns, rows)))
         self.assertEqual(len(back), len(found))
         return found.rows
 
@@ -423,7 +426,8 @@ class KindsOfCells(Decided):
             self.assertIsNone(self.found(Plan.cut(question, 2), Plan.cut(question, 1), HOME, TENS))
 
     def test_two_numbers_beside_each_told_one(self):
-        stores = [Ways(unit=10, halves=halves) for halves in CHOICES["halves"]] + [Ways(unit=5, halves="cut"), Ways(unit=2)]
+        stores = [Ways(unit=10, halves=halves) for halves in CHOICES["halves"]]
+        stores += [Ways(unit=5, halves="cut"), Ways(unit=2)]
         for told, (far, home) in product([80, 94, -15, 99980], product(stores, stores)):
             question = Question.read(N, f"where not n below {told} and not n is {told}\nunlike n")
             numbers = [each for each in range(told - 5, told + 60) if far.rounded(each) > far.rounded(told)]

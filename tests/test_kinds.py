@@ -63,7 +63,6 @@ class Texts(unittest.TestCase):
             self.assertLessEqual({cell for pair in pairs for cell in pair}, set(cells))
             for cell in cells:
                 self.assertLessEqual({(cell, None), (None, cell)}, set(pairs))
-            # Whether a text is as it stands in lower case, and has blanks, is asked of single ones alone.
             looks = {pair_look(one, other, told) for one, other in pairs if one is not None and other is not None}
             for _ in range(1500):
                 one = self.some_text(maker, told)
@@ -87,7 +86,8 @@ class Numbers(unittest.TestCase):
         found = []
         for far, home in product(self.STORES, self.STORES):
             seen = [home.rounded(far.rounded(number)) for number in numbers]
-            found += [compared(one, home.rounded(each)) for one in seen for each in told] + [compared(seen[0], seen[-1])]
+            found += [compared(one, home.rounded(each)) for one in seen for each in told]
+            found.append(compared(seen[0], seen[-1]))
         rests = [store.rounded(number) - number for store in self.STORES for number in numbers]
         return tuple(found + rests)
 
@@ -108,8 +108,8 @@ class Numbers(unittest.TestCase):
 
     def test_numbers_that_are_near_one_another(self):
         for told in ([], [80]):
-            pairs = [pair for pair in pairs_of_kinds("number", told) if None not in pair and abs(pair[0] - pair[1]) < 25]
-            looks = {self.look(pair, told) for pair in pairs}
+            pairs = [pair for pair in pairs_of_kinds("number", told) if None not in pair]
+            looks = {self.look(pair, told) for pair in pairs if abs(pair[0] - pair[1]) < 25}
             maker = Random(1)
             for _ in range(150):
                 one = maker.choice([0, *told, 500, -500]) + maker.randint(-120, 120)
